@@ -1,0 +1,1 @@
+"""Letters handed over by couriers on rounds that change."""

@@ -1,0 +1,1 @@
+"""Rounds and the couriers that go round them."""

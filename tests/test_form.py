@@ -1,0 +1,95 @@
+"""The form of the package: where the interface stands, and what of the language can be seen at a glance."""
+
+import ast
+import inspect
+import pathlib
+import unittest
+
+from handrounds import errors
+from handrounds.rounds import couriers, rounds
+
+ROOT = pathlib.Path(__file__).resolve().parent.parent
+PACKAGE = ROOT / "handrounds"
+FILES = sorted(PACKAGE.rglob("*.py"))
+
+# File by file: each class, and its listed methods with their parameters.
+INTERFACE = {
+    errors: {
+        "RoundError": {}, "BadName": {"__init__": "(self, name)"}, "BadRound": {"__init__": "(self, part)"},
+        "BadStop": {"__init__": "(self, index)"}, "BadNet": {"__init__": "(self, name)"},
+        "UnknownNode": {"__init__": "(self, name)"}, "BadChange": {"__init__": "(self, index)"},
+        "BadLetter": {"__init__": "(self, name)"}, "NotInTime": {}, "TooFew": {"__init__": "(self, count)"},
+        "UnknownField": {"__init__": "(self, name)"},
+    },
+    rounds: {"Round": {
+        "__init__": "(self, period, *stops)", "of": "(cls, period, stops)", "places": "(self)",
+        "__eq__": "(self, other)", "__len__": "(self)", "__repr__": "(self)"}},
+    couriers: {"Courier": {
+        "__init__": "(self, name, way, start, since)", "place_at": "(self, tick)", "next_stop": "(self, tick)",
+        "last_stop": "(self, tick)", "paused": "(self, tick, ticks)", "__eq__": "(self, other)",
+        "__repr__": "(self)"}},
+}
+
+
+def bare(method):
+    """The plain function under a property or a class method."""
+    return getattr(method, "fget", None) or getattr(method, "__func__", None) or method
+
+
+class Interface(unittest.TestCase):
+    def test_classes_stand_in_their_files_with_their_methods(self):
+        for module, classes in INTERFACE.items():
+            for name, methods in classes.items():
+                kind = getattr(module, name)
+                self.assertEqual(kind.__module__, module.__name__)
+                for method, parameters in methods.items():
+                    with self.subTest(kind=name, method=method):
+                        self.assertEqual(str(inspect.signature(bare(vars(kind)[method]))), parameters)
+
+
+class Sources(unittest.TestCase):
+    def test_folders_hold_plain_source_files_only(self):
+        for path in PACKAGE.rglob("*"):
+            if "__pycache__" in path.parts:
+                continue
+            with self.subTest(path=str(path)):
+                if path.is_dir():
+                    self.assertTrue((path / "__init__.py").is_file())
+                else:
+                    self.assertEqual(path.suffix, ".py")
+                    self.assertEqual(path.name, path.name.lower())
+
+    def test_signs_and_sizes(self):
+        for path in FILES:
+            with self.subTest(path=str(path)):
+                text = path.read_bytes().decode("ascii")
+                self.assertEqual([sign for sign in text if sign != "\n" and not " " <= sign <= "~"], [])
+                self.assertLessEqual(len(text.splitlines()), 399)
+                self.assertEqual([line for line in text.splitlines() if len(line) > 120], [])
+
+    def test_functions_are_small(self):
+        for path in FILES:
+            for node in ast.walk(ast.parse(path.read_text())):
+                if isinstance(node, ast.FunctionDef):
+                    with self.subTest(path=str(path), function=node.name):
+                        self.assertLessEqual(node.end_lineno - node.lineno + 1, 40)
+
+    def test_imports_name_the_file_that_defines_the_name(self):
+        for path in FILES:
+            for node in ast.walk(ast.parse(path.read_text())):
+                self.assertNotIsInstance(node, ast.Import)
+                if isinstance(node, ast.ImportFrom):
+                    with self.subTest(path=str(path), module=node.module):
+                        self.assert_defined(node)
+
+    def assert_defined(self, node):
+        self.assertEqual((node.level, node.module.split(".")[0]), (0, "handrounds"))
+        source = ROOT / (node.module.replace(".", "/") + ".py")
+        defined = [row.name for row in ast.parse(source.read_text()).body if hasattr(row, "name")]
+        for name in node.names:
+            self.assertIsNone(name.asname)
+            self.assertIn(name.name, defined)
+
+
+if __name__ == "__main__":
+    unittest.main()
