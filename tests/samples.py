@@ -1,4 +1,13 @@
-"""Strings and stops that several tests use."""
+"""What several tests use: strings, stops, and the words of the document followed tick by tick.
+
+A row is a courier written out: (name, period, stops, start, since).
+"""
+
+import math
+
+from handrounds.nets.nets import Net
+from handrounds.rounds.couriers import Courier
+from handrounds.rounds.rounds import Round
 
 NAMES = ("a", "z", "az", "mill", "abcdefghijkl", "zzzzzzzzzzzz", "mnopqrstuvwx")
 # The signs just outside of a to z, capital letters, digits, spaces and newlines, in each position.
@@ -8,3 +17,102 @@ NO_NAMES = (
     "mi_ll", "abcdefghijk{", "`bcdefghijkl", "ABCDEFGHIJKL",
 )
 EIGHT = tuple((3 * number, "abcdefgh"[number]) for number in range(8))
+BILLION = 10 ** 9
+FAR = 10 ** 30
+FARTHEST = 10 ** 32
+# The couriers of the document's examples.
+ANNA = Courier("anna", Round(6, (0, "mill"), (2, "port")), 1, 0)
+BERT = Courier("bert", Round(4, (3, "mill")), 0, 0)
+NET = Net((ANNA, BERT), ("port",))
+
+
+def fixed(tick, period, stops, start, since):
+    """The place of a courier at the tick, straight from the words of point 4."""
+    found = [place for at, place in stops if tick >= since and (tick - start - at) % period == 0]
+    return found[0] if found else ""
+
+
+def net_of(rows, boxes):
+    """The net of the rows and the boxes."""
+    return Net(tuple(Courier(name, Round(period, *stops), start, since)
+                     for name, period, stops, start, since in rows), tuple(boxes))
+
+
+def nodes_of(rows, boxes):
+    """The nodes of that net, in ascending order."""
+    return sorted([row[0] for row in rows] + ["@" + place for place in boxes])
+
+
+def there(rows, tick, node):
+    """The place of a node at the tick, a box being always at its own."""
+    if node.startswith("@"):
+        return node[1:]
+    return fixed(tick, *[row[1:] for row in rows if row[0] == node][0])
+
+
+def met(rows, tick, one, two):
+    """The place at which the two different nodes meet at the tick, straight from point 5; or an empty string."""
+    place = there(rows, tick, one)
+    return place if place == there(rows, tick, two) and one[0] + two[0] != "@@" else ""
+
+
+def horizon(rows, boxes, ticks):
+    """A tick by which everything that ever happens from these ticks on has happened for the first time."""
+    once = math.lcm(*[row[1] for row in rows])
+    return max([row[4] for row in rows] + list(ticks)) + (len(rows) + len(boxes) + 1) * once
+
+
+def handed(rows, boxes, starts):
+    """The earliest tick of each node that ever has the letter, by handing over tick by tick (point 6)."""
+    nodes = nodes_of(rows, boxes)
+    has = {}
+    for tick in range(horizon(rows, boxes, [tick for _, tick in starts])):
+        for node, since in starts:
+            if since == tick:
+                has.setdefault(node, tick)
+        at = {node: there(rows, tick, node) for node in nodes}
+        for place in {at[row[0]] for row in rows} - {""}:
+            here = [node for node in nodes if at[node] == place]
+            if any(node in has for node in here):
+                for node in here:
+                    has.setdefault(node, tick)
+    return has
+
+
+def leads(rows, boxes, starts, links, node):
+    """Whether the hand-overs are a chain to the node, straight from point 7."""
+    nodes = nodes_of(rows, boxes)
+    if not links:
+        return node in [start for start, _ in starts]
+    for tick, place, giver, taker in links:
+        if giver not in nodes or taker not in nodes or giver == taker or place == "":
+            return False
+        if met(rows, tick, giver, taker) != place:
+            return False
+    pairs = list(zip(links, links[1:]))
+    return (any(start == links[0][2] and since <= links[0][0] for start, since in starts)
+            and all(after[2] == before[3] and after[0] >= before[0] for before, after in pairs)
+            and links[-1][3] == node)
+
+
+def some_rows(chance, many, latest=9):
+    """So many couriers with short rounds, drawn from a seeded random.Random."""
+    rows = []
+    for number in range(many):
+        period = chance.choice((1, 2, 3, 4, 5, 6, 8))
+        ticks = sorted(chance.sample(range(period), chance.randint(0, min(period, 3))))
+        stops = tuple((tick, chance.choice(("mill", "port", "ford", "pass"))) for tick in ticks)
+        rows.append(("abcdefghijkl"[number], period, stops, chance.randint(-9, 20), chance.randint(0, latest)))
+    chance.shuffle(rows)
+    return rows
+
+
+def some_boxes(chance, many):
+    """So many of five places in any order."""
+    return chance.sample(("mill", "port", "ford", "pass", "moor"), many)
+
+
+def stretched(rows, factor, shift=0):
+    """The rows with all ticks and periods times the factor, and all starts shifted."""
+    return [(name, period * factor, tuple((at * factor, place) for at, place in stops),
+             start * factor + shift, since * factor) for name, period, stops, start, since in rows]

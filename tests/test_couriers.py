@@ -6,18 +6,9 @@ import unittest
 from handrounds.errors import BadName
 from handrounds.rounds.couriers import Courier
 from handrounds.rounds.rounds import Round
-from samples import EIGHT, NAMES, NO_NAMES
+from samples import BILLION, EIGHT, FAR, FARTHEST, NAMES, NO_NAMES, fixed
 
 WAY = Round(6, (0, "mill"), (2, "port"))
-BILLION = 10 ** 9
-FAR = 10 ** 30
-FARTHEST = 10 ** 32
-
-
-def fixed(tick, period, stops, start, since):
-    """The place at the tick, straight from the words of point 4."""
-    found = [place for at, place in stops if tick >= since and (tick - start - at) % period == 0]
-    return found[0] if found else ""
 
 
 def every_round(longest):

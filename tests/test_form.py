@@ -6,13 +6,14 @@ import pathlib
 import unittest
 
 from handrounds import errors
+from handrounds.nets import earliest, meetings, nets
 from handrounds.rounds import couriers, rounds
 
 ROOT = pathlib.Path(__file__).resolve().parent.parent
 PACKAGE = ROOT / "handrounds"
 FILES = sorted(PACKAGE.rglob("*.py"))
 
-# File by file: each class, and its listed methods with their parameters.
+# File by file: each class, and its listed methods with their parameters; each function with its parameters.
 INTERFACE = {
     errors: {
         "RoundError": {}, "BadName": {"__init__": "(self, name)"}, "BadRound": {"__init__": "(self, part)"},
@@ -28,6 +29,19 @@ INTERFACE = {
         "__init__": "(self, name, way, start, since)", "place_at": "(self, tick)", "next_stop": "(self, tick)",
         "last_stop": "(self, tick)", "paused": "(self, tick, ticks)", "__eq__": "(self, other)",
         "__repr__": "(self)"}},
+    nets: {"Net": {
+        "__init__": "(self, couriers, boxes)", "hands": "(self)", "boxes": "(self)", "nodes": "(self)",
+        "courier": "(self, name)", "has": "(self, node)", "__eq__": "(self, other)", "__len__": "(self)",
+        "__repr__": "(self)"}},
+    meetings: {
+        "next_meeting": "(net, one, two, tick)", "last_meeting": "(net, one, two, tick)",
+        "meetings": "(net, one, two, tick, end)", "ever_meet": "(net, one, two)"},
+    earliest: {
+        "Table": {
+            "__init__": "(self, *entries)", "of": "(cls, entries)", "tick_of": "(self, node)",
+            "holds": "(self, net, starts)", "__eq__": "(self, other)", "__len__": "(self)"},
+        "earliest": "(net, starts)", "chain": "(net, starts, node)", "is_chain": "(net, starts, links, node)",
+        "delivery": "(net, starts, place)"},
 }
 
 
@@ -37,14 +51,22 @@ def bare(method):
 
 
 class Interface(unittest.TestCase):
-    def test_classes_stand_in_their_files_with_their_methods(self):
-        for module, classes in INTERFACE.items():
-            for name, methods in classes.items():
-                kind = getattr(module, name)
-                self.assertEqual(kind.__module__, module.__name__)
-                for method, parameters in methods.items():
-                    with self.subTest(kind=name, method=method):
-                        self.assertEqual(str(inspect.signature(bare(vars(kind)[method]))), parameters)
+    def test_all_stands_in_its_file_with_its_parameters(self):
+        for module, listed in INTERFACE.items():
+            for name, told in listed.items():
+                self.assertEqual(getattr(module, name).__module__, module.__name__)
+                if isinstance(told, str):
+                    self.assert_parameters(getattr(module, name), told)
+                else:
+                    self.assert_methods(getattr(module, name), told)
+
+    def assert_methods(self, kind, methods):
+        for method, parameters in methods.items():
+            self.assert_parameters(bare(vars(kind)[method]), parameters)
+
+    def assert_parameters(self, function, parameters):
+        with self.subTest(function=function):
+            self.assertEqual(str(inspect.signature(function)), parameters)
 
 
 class Sources(unittest.TestCase):

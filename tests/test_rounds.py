@@ -5,9 +5,7 @@ import unittest
 from handrounds.errors import BadRound, BadStop
 from handrounds.rounds.couriers import Courier
 from handrounds.rounds.rounds import Round
-from samples import EIGHT, NAMES, NO_NAMES
-
-BILLION = 10 ** 9
+from samples import BILLION, EIGHT, NAMES, NO_NAMES
 
 
 def both_ways(period, stops):

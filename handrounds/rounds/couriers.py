@@ -2,6 +2,7 @@
 
 from handrounds.errors import BadName
 from handrounds.names import is_name
+from handrounds.rounds.cycles import Cycle
 
 
 class Courier:
@@ -24,20 +25,18 @@ class Courier:
                 return place
         return ""
 
+    def cycle(self):
+        """Return the cycle of the ticks and places of the courier's stops."""
+        stops = [(self.start + at, place) for at, place in self.way.stops]
+        return Cycle(self.way.period, stops, self.since)
+
     def next_stop(self, tick):
         """Return the first (tick, place) of the courier from the tick on, or None."""
-        first = max(tick, self.since)
-        period = self.way.period
-        # Each stop comes back within one period, so its next tick is found without counting.
-        soonest = [(first + (self.start + at - first) % period, place) for at, place in self.way.stops]
-        return min(soonest, default=None)
+        return self.cycle().first_from(tick)
 
     def last_stop(self, tick):
         """Return the last (tick, place) of the courier up to the tick, or None."""
-        period = self.way.period
-        latest = [(tick - (tick - self.start - at) % period, place) for at, place in self.way.stops]
-        # If a stop's latest tick is before the courier goes, all its earlier ones are, too.
-        return max([stop for stop in latest if stop[0] >= self.since], default=None)
+        return self.cycle().last_until(tick)
 
     def paused(self, tick, ticks):
         """Return the courier after a pause of so many ticks, made at the tick."""

@@ -1,0 +1,1 @@
+"""Nets of couriers and boxes, their meetings, and how letters spread in them."""
