@@ -295,6 +295,10 @@ class Delivery(unittest.TestCase):
         self.assert_delivery("port", 8, Net((ANNA, BERT), ("port", "mill")), (("@port", 8),))
         self.assert_delivery("moor", 5, Net((), ("moor",)), (("@moor", 5),))
 
+    def test_a_box_is_there_at_every_tick(self):
+        for tick in (-FAR, -1, 0, FAR):
+            self.assert_delivery("port", tick, starts=(("@port", tick),))
+
     def test_a_box_and_couriers(self):
         net = Net((ANNA, BERT), ("mill", "port"))
         self.assert_delivery("mill", 8, net, (("@mill", 8),))

@@ -10,15 +10,11 @@ from handrounds.nets.nets import Net
 from handrounds.rounds.couriers import Courier
 from handrounds.rounds.rounds import Round
 from samples import (
-    ANNA, BERT, BILLION, FAR, FARTHEST, NET, NO_NAMES, handed, net_of, nodes_of, some_boxes, some_rows, stretched)
+    ANNA, BERT, BILLION, FAR, FARTHEST, NET, NO_NAMES, handed, net_of, nodes_of, some_boxes, some_rows, some_starts,
+    stretched)
 
 STARTS = (("bert", 8),)
 TOLD = (("@port", 21), ("anna", 19), ("bert", 8))
-
-
-def some_starts(chance, nodes, many, latest=30):
-    """So many starts of these nodes in any order, often several of one node."""
-    return tuple((chance.choice(nodes), chance.randint(0, latest)) for _ in range(many))
 
 
 class EarliestCase(unittest.TestCase):

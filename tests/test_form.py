@@ -5,14 +5,17 @@ import inspect
 import pathlib
 import unittest
 
-from handrounds import errors
-from handrounds.nets import earliest, meetings, nets
+from handrounds import desk, errors
+from handrounds.change import changes
+from handrounds.nets import closed, earliest, latest, meetings, nets
 from handrounds.rounds import couriers, rounds
 
 ROOT = pathlib.Path(__file__).resolve().parent.parent
 PACKAGE = ROOT / "handrounds"
 FILES = sorted(PACKAGE.rglob("*.py"))
 
+# What each change defines in its own body.
+CHANGE = {"told": "(self)", "apply": "(self, net, tick)", "__eq__": "(self, other)"}
 # File by file: each class, and its listed methods with their parameters; each function with its parameters.
 INTERFACE = {
     errors: {
@@ -42,6 +45,24 @@ INTERFACE = {
             "holds": "(self, net, starts)", "__eq__": "(self, other)", "__len__": "(self)"},
         "earliest": "(net, starts)", "chain": "(net, starts, node)", "is_chain": "(net, starts, links, node)",
         "delivery": "(net, starts, place)"},
+    latest: {
+        "latest_start": "(net, node, place, deadline)", "needed_hands": "(net, starts, place, deadline)"},
+    closed: {"closed_set": "(net, nodes)", "closed_sets": "(net)", "least_pause": "(net, nodes)"},
+    changes: {
+        "Change": CHANGE,
+        "Pause": {"__init__": "(self, name, ticks)", **CHANGE},
+        "Leave": {"__init__": "(self, name)", **CHANGE},
+        "Join": {"__init__": "(self, newcomer)", **CHANGE},
+        "Open": {"__init__": "(self, place)", **CHANGE},
+        "Close": {"__init__": "(self, place)", **CHANGE},
+        "Difference": {"is_nothing": "(self)"},
+        "difference": "(net, change, tick, starts)"},
+    desk: {"Desk": {
+        "__init__": "(self, net)", "plain": "(cls, *couriers)", "tick": "(self)", "net": "(self)", "letters": "(self)",
+        "post": "(self, letter, *nodes)", "wait": "(self, ticks)", "change": "(self, *changes)",
+        "holders": "(self, letter)", "got": "(self, letter, node)", "forecast": "(self, letter)",
+        "stays": "(self, letter)", "escape": "(self, letter)", "undo": "(self, *, count=1)",
+        "describe": "(self, **wanted)", "__len__": "(self)"}},
 }
 
 

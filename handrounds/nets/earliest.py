@@ -1,8 +1,7 @@
 """How a letter spreads in a net: when each node first has it, by which chain, and where it is delivered."""
 
-from handrounds.nets.meetings import presence
+from handrounds.nets.meetings import presence, visits
 from handrounds.nets.nets import box_node, check_nodes
-from handrounds.rounds.cycles import always_at
 
 
 def given(net, starts):
@@ -115,11 +114,5 @@ def is_chain(net, starts, links, node):
 def delivery(net, starts, place):
     """Return the earliest tick at which the letter is delivered at the place, or None."""
     found = spread(net, starts)
-    box = box_node(place)
-    ticks = [found[box][0]] if box in found else []
-    for name in net.hands:
-        if name in found:
-            visit = presence(net, name).shared(always_at(place)).first_from(found[name][0])
-            if visit is not None:
-                ticks.append(visit[0])
-    return min(ticks, default=None)
+    made = [visits(net, node, place).first_from(way[0]) for node, way in found.items()]
+    return min([visit[0] for visit in made if visit is not None], default=None)

@@ -11,6 +11,11 @@ def presence(net, node):
     return always_at(node[1:])
 
 
+def visits(net, node, place):
+    """Return the cycle of the ticks at which the node delivers at the place what it has."""
+    return presence(net, node).shared(always_at(place))
+
+
 def meeting_cycle(net, one, two):
     """Return the cycle of the meetings of two nodes."""
     check_nodes(net, (one, two))

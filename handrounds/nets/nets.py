@@ -72,3 +72,19 @@ class Net:
 
     def __repr__(self):
         return f"Net({' '.join(self._nodes)})"
+
+
+def couriers_of(net):
+    """Return the tuple of the couriers of the net."""
+    return tuple([net.courier(name) for name in net.hands])
+
+
+def without(net, name):
+    """Return the net without the courier; raise UnknownNode if there is none."""
+    gone = net.courier(name)
+    return Net(tuple([courier for courier in couriers_of(net) if courier != gone]), net.boxes)
+
+
+def joined(net, newcomer):
+    """Return the net with one courier more."""
+    return Net(couriers_of(net) + (newcomer,), net.boxes)

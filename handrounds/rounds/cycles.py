@@ -1,5 +1,8 @@
 """Cycles: ticks and places that come back after a fixed period."""
 
+# What is always at a place is there before every tick that anybody asks about.
+LONG_AGO = -(10 ** 40)
+
 
 def divisor_and_factor(one, two):
     """Return the greatest common divisor, and a factor by which one gives it, but for multiples of two."""
@@ -50,4 +53,4 @@ class Cycle:
 
 def always_at(place):
     """Return the cycle of what is at the place at every tick."""
-    return Cycle(1, [(0, place)], 0)
+    return Cycle(1, [(0, place)], LONG_AGO)

@@ -1,0 +1,1 @@
+"""Changes of a net, and what they make earlier, later or impossible."""
